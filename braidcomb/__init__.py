@@ -1,0 +1,1 @@
+"""Braidcomb: strings that cross, brought to one form."""
