@@ -1,9 +1,11 @@
 """Words to test with, and a test case that knows what a refusal is."""
 
 import copy
+import itertools
 import unittest
 
 from braidcomb import errors
+from braidcomb.moves import moved, moves_of
 
 REFUSALS = (
     errors.NoWord, errors.BadText, errors.NoMove, errors.NoRow, errors.NoForm,
@@ -54,6 +56,68 @@ def all_words(n, longest):
     return words
 
 
+def above_words(n, length):
+    """All words of n strings with just so many crossings, all above nought."""
+    return [list(word) for word in itertools.product(range(1, n), repeat=length)]
+
+
+def all_rows(n):
+    return [list(row) for row in itertools.permutations(range(n))]
+
+
+def thrown_row(n, dice):
+    left = list(range(n))
+    return [left.pop(dice.below(len(left))) for _ in range(n)]
+
+
+def thrown_rows(n, many, seed=0):
+    dice = Dice(77 * n + 31 * seed)
+    return [thrown_row(n, dice) for _ in range(many)]
+
+
+def every_move(n, word):
+    """All exchanges that can be done in a word, those that put in among them."""
+    return moves_of(word) + [("in", p, k) for p in range(len(word) + 1) for k in crossings(n)]
+
+
+def turn_moves(p, a, b):
+    """Exchanges that put in a, b, a, -a, -b, -a ahead of crossing p and make it b, a, b, -a, -b, -a."""
+    return [("in", p, a), ("in", p + 1, b), ("in", p + 2, a), ("near", p)]
+
+
+def thrown_moves(n, word, dice):
+    """A few exchanges that can be done one behind the other; none where there is one string."""
+    found = moves_of(word)
+    if found and dice.below(4) > 0:
+        return [found[dice.below(len(found))]]
+    p = dice.below(len(word) + 1)
+    k = crossings(n)[dice.below(2 * n - 2)]
+    if n > 2 and dice.below(2) == 0:
+        other = k + 1 if abs(k + 1) in range(1, n) else k - 1
+        return turn_moves(p, k, other)
+    return [("in", p, k)]
+
+
+def walk(n, word, many, dice):
+    """The words that come of exchanges, one behind the other, so many times."""
+    found = [list(word)]
+    if n == 1:
+        return found
+    for _ in range(many):
+        for move in thrown_moves(n, found[-1], dice):
+            found.append(moved(n, found[-1], move))
+    return found
+
+
+def lists_within(thing):
+    """All lists in a thing that was handed in or told, itself among them."""
+    found = [thing] if isinstance(thing, list) else []
+    if isinstance(thing, (list, tuple)):
+        for part in thing:
+            found.extend(lists_within(part))
+    return found
+
+
 class BraidCase(unittest.TestCase):
     """A test case that looks at kinds, at refusals and at what was handed in."""
 
@@ -62,9 +126,10 @@ class BraidCase(unittest.TestCase):
         kept = copy.deepcopy(given)
         answer = deed(*given)
         self.assertEqual(given, kept, "what was handed in was changed")
-        for thing in given:
-            if isinstance(thing, list):
-                self.assertIsNot(answer, thing, "the very list that was handed in was told")
+        told_lists = [id(each) for each in lists_within(answer)]
+        given_lists = {id(each) for each in lists_within(given)}
+        self.assertEqual(len(set(told_lists)), len(told_lists), "one list was told at two places")
+        self.assertFalse(given_lists & set(told_lists), "a very list that was handed in was told")
         return answer
 
     def told_word(self, deed, *given):

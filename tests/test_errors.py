@@ -4,7 +4,9 @@ import unittest
 
 from braidcomb import errors
 from braidcomb.errors import BraidError
+from braidcomb.forms import checked_form
 from braidcomb.moves import move_back, moved
+from braidcomb.rows import checked_row, row_of
 from braidcomb.words import checked
 from braidcomb.wordtext import read_text
 from tests.samples import REFUSALS, BraidCase
@@ -16,6 +18,15 @@ REFUSED = (
     (errors.BadText, read_text, ("",)),
     (errors.NoMove, moved, (3, [1], ("out", 0))),
     (errors.NoMove, move_back, (3, [1], ("out", 0))),
+    (errors.NoRow, checked_row, ([],)),
+    (errors.NoRow, checked_row, ([1, 1],)),
+    (errors.NoRow, row_of, (3, [-1])),
+    (errors.NoRow, row_of, (3, [1, 1])),
+    (errors.NoForm, checked_form, (1, (1, []))),
+    (errors.NoForm, checked_form, (3, (0, [[0, 1, 2]]))),
+    (errors.NoForm, checked_form, (3, (0, [[2, 1, 0]]))),
+    (errors.NoForm, checked_form, (3, (0, [[0, 0, 0]]))),
+    (errors.NoForm, checked_form, (3, (0, [[1, 0, 2], [0, 2, 1]]))),
 )
 
 

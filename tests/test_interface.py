@@ -23,6 +23,37 @@ INTERFACE = {
         "moves_of": ["word"],
         "move_back": ["n", "word", "move"],
     },
+    "counts": {
+        "sum_of": ["word"],
+        "table": ["n", "word"],
+        "rings": ["n", "word"],
+        "linked": ["n", "word"],
+        "profile": ["n", "word"],
+    },
+    "rows": {
+        "checked_row": ["row"],
+        "straight": ["n"],
+        "half": ["n"],
+        "ahead": ["row"],
+        "behind": ["row"],
+        "flipped_row": ["row"],
+        "starts": ["row"],
+        "stops": ["row"],
+        "row_word": ["row"],
+        "row_of": ["n", "word"],
+        "slid": ["one", "other"],
+    },
+    "forms": {
+        "checked_form": ["n", "form"],
+        "form_word": ["n", "form"],
+        "form": ["n", "word"],
+        "same": ["n", "one", "other"],
+        "form_joined": ["n", "one", "other"],
+        "form_turned": ["n", "one"],
+    },
+    "parts": {
+        "parted": ["n", "word"],
+    },
 }
 
 

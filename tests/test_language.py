@@ -29,6 +29,7 @@ OWN_METHODS = set(
     "setdefault split splitlines startswith strip update upper values zfill bit_length".split()
 )
 PLAIN_NAME = re.compile(r"[A-Za-z][A-Za-z0-9_]*")
+FREE_VALUES = set("count index title find get join lower upper split strip copy add".split())
 DUNDERS = {"__init__", "__eq__", "__repr__", "__str__", "__len__"}
 BANNED_WORDS = re.compile(
     r"\b(type|typing|typing_extensions|enum|Enum|IntEnum|StrEnum|Flag|IntFlag|Generic|Protocol|ABC|ABCMeta|namedtuple"
@@ -62,6 +63,10 @@ def stored_names(tree):
     names.extend(node.arg for node in ast.walk(tree) if isinstance(node, ast.arg))
     names.extend(node.name for node in ast.walk(tree) if isinstance(node, (ast.FunctionDef, ast.ClassDef)))
     return names
+
+
+def stored_values(tree):
+    return [node.attr for node in ast.walk(tree) if isinstance(node, ast.Attribute) and isinstance(node.ctx, ast.Store)]
 
 
 def drawn_from(tree):
@@ -134,13 +139,44 @@ class Language(unittest.TestCase):
     def test_names(self):
         def check(path, tree):
             for name in stored_names(tree):
-                self.assertTrue(name in DUNDERS or PLAIN_NAME.fullmatch(name), name)
+                if name in DUNDERS:
+                    continue
+                self.assertTrue(PLAIN_NAME.fullmatch(name), name)
                 self.assertFalse(hasattr(builtins, name), name)
             known = set(top_names(tree)) | set(stored_names(tree))
             for node in ast.walk(tree):
                 if isinstance(node, ast.Name) and node.id not in known:
                     self.assertIn(node.id, OWN_NAMES)
             self.assertEqual(len(top_names(tree)), len(set(top_names(tree))))
+
+        self.each(check)
+
+    def test_no_local_is_called_like_a_class_or_an_import(self):
+        def check(path, tree):
+            taken = [node.name for node in tree.body if isinstance(node, ast.ClassDef)]
+            for node in tree.body:
+                if isinstance(node, ast.ImportFrom):
+                    taken.extend(alias.name for alias in node.names)
+            for deed in ast.walk(tree):
+                if isinstance(deed, ast.FunctionDef):
+                    inner = [name for part in deed.body for name in stored_names(part)]
+                    inner.extend(each.arg for each in deed.args.args)
+                    self.assertEqual([name for name in inner if name in taken], [], deed.name)
+
+        self.each(check)
+
+    def test_values_and_methods_of_objects(self):
+        kinds = (str, int, list, dict, set, bytes)
+        values = [name for path in package_files() for name in stored_values(tree_of(path))]
+        for name in values:
+            self.assertTrue(name in FREE_VALUES or not any(hasattr(kind, name) for kind in kinds), name)
+
+        def check(path, tree):
+            for node in ast.walk(tree):
+                if isinstance(node, ast.ClassDef):
+                    methods = [part.name for part in node.body if isinstance(part, ast.FunctionDef)]
+                    self.assertEqual(len(methods), len(set(methods)), node.name)
+                    self.assertEqual([name for name in methods if name in values], [], node.name)
 
         self.each(check)
 

@@ -3,13 +3,20 @@
 import copy
 import unittest
 
+from braidcomb.counts import linked, profile, rings, sum_of, table
+from braidcomb.forms import checked_form, form, form_joined, form_turned, form_word, same
 from braidcomb.moves import move_back, moved, moves_of
+from braidcomb.parts import parted
+from braidcomb.rows import (
+    ahead, behind, checked_row, flipped_row, half, row_of, row_word, slid, starts, stops, straight,
+)
 from braidcomb.words import checked, flipped, mirrored, order_of, trimmed, turned, upturned
 from braidcomb.wordtext import read_text, written
-from tests.samples import BraidCase, crossings, sample_words
+from tests.samples import MOST_STRINGS, BraidCase, crossings, lists_within, sample_words, thrown_rows
 
 LISTS_OF_A_WORD = (turned, mirrored, upturned, trimmed, moves_of)
-LISTS_OF_N_AND_A_WORD = (flipped, order_of)
+LISTS_OF_N_AND_A_WORD = (flipped, order_of, table, rings, linked, profile, form, parted)
+LISTS_OF_A_ROW = (starts, stops, row_word, ahead, behind, flipped_row)
 
 
 def asked():
@@ -20,7 +27,34 @@ def asked():
         found.extend([(deed, (n, word)) for deed in LISTS_OF_N_AND_A_WORD])
         found.extend([(moved, (n, word, ("in", len(word) // 2, k))) for k in crossings(n)])
         found.extend([(moved, (n, word, move)) for move in moves_of(word)[:3]])
+        found.extend(asked_of_a_form(n, form(n, word)))
+    for n in range(1, MOST_STRINGS + 1):
+        found.extend([(straight, (n,)), (half, (n,))])
+        for row in thrown_rows(n, 5) + [straight(n), half(n)]:
+            found.extend(asked_of_a_row(n, row))
     return found
+
+
+def asked_of_a_form(n, whole):
+    """One form stands twice for form_joined, once as the very same object."""
+    return [
+        (form_word, (n, whole)), (form_turned, (n, whole)),
+        (form_joined, (n, whole, (0, []))), (form_joined, (n, (0, []), whole)), (form_joined, (n, whole, whole)),
+    ]
+
+
+def asked_of_a_row(n, row):
+    found = [(deed, (row,)) for deed in LISTS_OF_A_ROW]
+    found.append((row_of, (n, row_word(row))))
+    found.extend([(slid, (row, other)) for other in (row, straight(n), half(n), behind(row), flipped_row(row))])
+    return found
+
+
+def spoil(thing):
+    """Changes each list of a thing, those within it, too."""
+    for each in lists_within(thing):
+        each.append(99)
+        each.reverse()
 
 
 class Own(BraidCase):
@@ -29,11 +63,11 @@ class Own(BraidCase):
             told = self.told(deed, *given)
             kept = copy.deepcopy(told)
             kept_given = copy.deepcopy(given)
-            told.append(99)
-            told.reverse()
+            spoil(told)
             self.assertEqual(given, kept_given)
             again = deed(*given)
-            self.assertIsNot(again, told)
+            spoiled = {id(each) for each in lists_within(told)}
+            self.assertFalse(spoiled & {id(each) for each in lists_within(again)})
             self.assertEqual(again, kept)
 
     def test_what_was_handed_in_may_be_changed_later(self):
@@ -41,9 +75,7 @@ class Own(BraidCase):
             own = copy.deepcopy(given)
             told = deed(*own)
             kept = copy.deepcopy(told)
-            for thing in own:
-                if isinstance(thing, list):
-                    thing.clear()
+            spoil(own)
             self.assertEqual(told, kept)
 
     def test_a_word_that_needs_no_trimming_is_told_anew(self):
@@ -65,8 +97,32 @@ class Own(BraidCase):
         for n, word in sample_words((0, 1, 2, 9, 4000)):
             self.told(checked, n, word)
             self.told(written, n, word)
+            self.told(sum_of, word)
+            self.told(same, n, word, word)
+            self.told(same, n, word, turned(word))
+            self.told(checked_form, n, form(n, word))
             for k in crossings(n):
                 self.told(move_back, n, word, ("in", len(word), k))
+        for n in range(1, MOST_STRINGS + 1):
+            for row in thrown_rows(n, 5):
+                self.told(checked_row, row)
+
+    def test_rows_of_a_form_are_lists_of_their_own(self):
+        told = form(3, [1, 1, 1])
+        self.assertEqual(told, (0, [[1, 0, 2]] * 3))
+        told[1][0].reverse()
+        self.assertEqual(told, (0, [[2, 0, 1], [1, 0, 2], [1, 0, 2]]))
+
+    def test_empty_lists_of_a_form_are_new_ones(self):
+        for n in range(1, MOST_STRINGS + 1):
+            form(n, [])[1].append([0])
+            self.assertEqual(form(n, []), (0, []))
+            for part in parted(n, []):
+                part.append(1)
+            self.assertEqual(parted(n, []), ([], []))
+            whole = (0, [])
+            for told in (form_joined(n, whole, whole), form_turned(n, whole)):
+                self.assertIsNot(told[1], whole[1])
 
 
 if __name__ == "__main__":
