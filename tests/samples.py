@@ -109,6 +109,22 @@ def walk(n, word, many, dice):
     return found
 
 
+def is_move(move):
+    """Whether a thing is a tuple of one of the four shapes."""
+    if type(move) is not tuple or move[0] not in ("out", "in", "far", "near"):
+        return False
+    numbers = move[1:]
+    return len(numbers) == (2 if move[0] == "in" else 1) and all(type(each) is int for each in numbers)
+
+
+def walked(n, word, moves):
+    """The word to which exchanges lead, done one behind the other."""
+    now = list(word)
+    for move in moves:
+        now = moved(n, now, move)
+    return now
+
+
 def lists_within(thing):
     """All lists in a thing that was handed in or told, itself among them."""
     found = [thing] if isinstance(thing, list) else []

@@ -6,7 +6,10 @@ from braidcomb import errors
 from braidcomb.errors import BraidError
 from braidcomb.forms import checked_form
 from braidcomb.moves import move_back, moved
+from braidcomb.pictures import read_picture
 from braidcomb.rows import checked_row, row_of
+from braidcomb.strings import doubled, without
+from braidcomb.ways import way
 from braidcomb.words import checked
 from braidcomb.wordtext import read_text
 from tests.samples import REFUSALS, BraidCase
@@ -27,6 +30,19 @@ REFUSED = (
     (errors.NoForm, checked_form, (3, (0, [[2, 1, 0]]))),
     (errors.NoForm, checked_form, (3, (0, [[0, 0, 0]]))),
     (errors.NoForm, checked_form, (3, (0, [[1, 0, 2], [0, 2, 1]]))),
+    (errors.Unlike, way, (3, [1], [2])),
+    (errors.Unlike, way, (3, [1, 1, 2, 2], [2, 2, 1, 1])),
+    (errors.NoString, without, (3, [1], -1)),
+    (errors.NoString, without, (3, [1], 3)),
+    (errors.NoString, without, (1, [], 0)),
+    (errors.NoString, doubled, (3, [1], -1)),
+    (errors.NoString, doubled, (3, [1], 3)),
+    (errors.NoString, doubled, (7, [1], 0)),
+    (errors.BadPicture, read_picture, ("",)),
+    (errors.BadPicture, read_picture, ("o u\n",)),
+    (errors.BadPicture, read_picture, ("| |\n|\n",)),
+    (errors.BadPicture, read_picture, ("| |\n||\n",)),
+    (errors.BadPicture, read_picture, ("| |\no o\n",)),
 )
 
 

@@ -54,6 +54,20 @@ INTERFACE = {
     "parts": {
         "parted": ["n", "word"],
     },
+    "unfolding": {
+        "unfolded": ["n", "word"],
+    },
+    "ways": {
+        "way": ["n", "one", "other"],
+    },
+    "strings": {
+        "without": ["n", "word", "s"],
+        "doubled": ["n", "word", "s"],
+    },
+    "pictures": {
+        "picture": ["n", "word"],
+        "read_picture": ["text"],
+    },
 }
 
 

@@ -7,12 +7,16 @@ from braidcomb.counts import linked, profile, rings, sum_of, table
 from braidcomb.forms import checked_form, form, form_joined, form_turned, form_word, same
 from braidcomb.moves import move_back, moved, moves_of
 from braidcomb.parts import parted
+from braidcomb.pictures import picture, read_picture
 from braidcomb.rows import (
     ahead, behind, checked_row, flipped_row, half, row_of, row_word, slid, starts, stops, straight,
 )
+from braidcomb.strings import doubled, without
+from braidcomb.unfolding import unfolded
+from braidcomb.ways import way
 from braidcomb.words import checked, flipped, mirrored, order_of, trimmed, turned, upturned
 from braidcomb.wordtext import read_text, written
-from tests.samples import MOST_STRINGS, BraidCase, crossings, lists_within, sample_words, thrown_rows
+from tests.samples import MOST_STRINGS, BraidCase, Dice, crossings, lists_within, sample_words, thrown_rows, walk
 
 LISTS_OF_A_WORD = (turned, mirrored, upturned, trimmed, moves_of)
 LISTS_OF_N_AND_A_WORD = (flipped, order_of, table, rings, linked, profile, form, parted)
@@ -28,10 +32,24 @@ def asked():
         found.extend([(moved, (n, word, ("in", len(word) // 2, k))) for k in crossings(n)])
         found.extend([(moved, (n, word, move)) for move in moves_of(word)[:3]])
         found.extend(asked_of_a_form(n, form(n, word)))
+        found.extend(asked_of_strings(n, word))
+    for n, word in sample_words((0, 1, 2, 9, 24)):
+        found.append((unfolded, (n, word)))
+        found.extend([(way, (n, word, other)) for other in walk(n, word, 3, Dice(n))])
+        # One list stands for both words.
+        found.append((way, (n, word, word)))
     for n in range(1, MOST_STRINGS + 1):
         found.extend([(straight, (n,)), (half, (n,))])
         for row in thrown_rows(n, 5) + [straight(n), half(n)]:
             found.extend(asked_of_a_row(n, row))
+    return found
+
+
+def asked_of_strings(n, word):
+    found = []
+    for s in range(n):
+        found.extend([(without, (n, word, s))] if n > 1 else [])
+        found.extend([(doubled, (n, word, s))] if n < MOST_STRINGS else [])
     return found
 
 
@@ -86,17 +104,22 @@ class Own(BraidCase):
             self.assertIsNot(deed(empty), empty)
 
     def test_what_was_read_may_be_changed(self):
-        for text in ("4:", "4: 1 -2 3", "1:"):
-            told = read_text(text)
-            kept = copy.deepcopy(told)
-            told[1].append(99)
-            self.assertEqual(read_text(text), kept)
-            self.assertIsNot(read_text(text)[1], read_text(text)[1])
+        for deed, texts in (
+            (read_text, ("4:", "4: 1 -2 3", "1:")),
+            (read_picture, ("|\n", "| |\n", "| | |\no u |\n| u o\n")),
+        ):
+            for text in texts:
+                told = deed(text)
+                kept = copy.deepcopy(told)
+                told[1].append(99)
+                self.assertEqual(deed(text), kept)
+                self.assertIsNot(deed(text)[1], deed(text)[1])
 
     def test_deeds_that_tell_no_list_change_nothing(self):
         for n, word in sample_words((0, 1, 2, 9, 4000)):
             self.told(checked, n, word)
             self.told(written, n, word)
+            self.told(picture, n, word)
             self.told(sum_of, word)
             self.told(same, n, word, word)
             self.told(same, n, word, turned(word))
