@@ -77,16 +77,20 @@ def steps_of(n, form):
     return [(form[0], straight(n))] + [(0, row) for row in form[1]]
 
 
+def past_halves(halves, row):
+    """Tell what a row becomes when it goes past so many half turns."""
+    # Each half turn flips the row, and two of them leave it as it was.
+    if halves % 2 == 0:
+        return list(row)
+    return flipped_row(row)
+
+
 def rows_behind_halves(steps):
     """Tell the rows that the steps have once all their half turns have gone to the begin."""
     rows = []
     halves = 0
     for step in reversed(steps):
-        # A half turn that goes from behind a row to ahead of it flips the row.
-        if halves % 2 == 0:
-            rows.append(list(step[1]))
-        else:
-            rows.append(flipped_row(step[1]))
+        rows.append(past_halves(halves, step[1]))
         halves += step[0]
     rows.reverse()
     return rows
@@ -101,9 +105,14 @@ def form_of_steps(n, steps):
     return (found[0] + sum([step[0] for step in steps]), found[1])
 
 
+def steps_of_word(n, word):
+    """Tell a word as a list of steps, each of half turns and a row behind them."""
+    return [step_of(n, piece) for piece in cut(n, trimmed(word))]
+
+
 def form(n, word):
     """Tell the one sound form whose word is the same as the word."""
-    return form_of_steps(n, [step_of(n, piece) for piece in cut(n, trimmed(word))])
+    return form_of_steps(n, steps_of_word(n, word))
 
 
 def same(n, one, other):

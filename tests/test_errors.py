@@ -3,12 +3,16 @@
 import unittest
 
 from braidcomb import errors
+from braidcomb.asking import combed, compared
 from braidcomb.errors import BraidError
 from braidcomb.forms import checked_form
+from braidcomb.likeness import alike
+from braidcomb.loom import Loom
 from braidcomb.moves import move_back, moved
 from braidcomb.pictures import read_picture
 from braidcomb.rows import checked_row, row_of
 from braidcomb.strings import doubled, without
+from braidcomb.summits import summits
 from braidcomb.ways import way
 from braidcomb.words import checked
 from braidcomb.wordtext import read_text
@@ -43,6 +47,23 @@ REFUSED = (
     (errors.BadPicture, read_picture, ("| |\n|\n",)),
     (errors.BadPicture, read_picture, ("| |\n||\n",)),
     (errors.BadPicture, read_picture, ("| |\no o\n",)),
+    (errors.TooMany, summits, (3, [1], 1)),
+    (errors.TooMany, summits, (3, [1], -1)),
+    (errors.TooMany, summits, (4, [-2, -2, -2, 1, -3, 1])),
+    (errors.TooMany, alike, (3, [1], [2], 1)),
+    (errors.TooMany, alike, (4, [-2, -2, -2, 1, -3, 1], [-2, -2, -2, 1, -3, 1])),
+    (errors.NoWord, Loom, (0,)),
+    (errors.NoWord, Loom, (8,)),
+    (errors.NoWord, Loom(3).hang, ([3],)),
+    (errors.NoMove, Loom(3).drop, (1,)),
+    (errors.NoMove, Loom(3).drop, (-1,)),
+    (errors.NoMove, Loom(3).go, (("out", 0),)),
+    (errors.BadText, combed, ("3",)),
+    (errors.NoWord, combed, ("3: 3",)),
+    (errors.BadText, compared, ("3", "3: 3")),
+    (errors.NoWord, compared, ("3: 3", "3")),
+    (errors.BadText, compared, ("3: 1", "3")),
+    (errors.NoWord, compared, ("3: 1", "3: 3")),
 )
 
 

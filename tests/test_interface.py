@@ -4,6 +4,8 @@ import importlib
 import inspect
 import unittest
 
+from braidcomb.loom import Loom
+
 INTERFACE = {
     "words": {
         "checked": ["n", "word"],
@@ -68,6 +70,31 @@ INTERFACE = {
         "picture": ["n", "word"],
         "read_picture": ["text"],
     },
+    "summits": {
+        "rolled_down": ["n", "form"],
+        "rolled_up": ["n", "form"],
+        "summit": ["n", "word"],
+        "summits": ["n", "word", "most"],
+    },
+    "likeness": {
+        "alike": ["n", "one", "other", "most"],
+    },
+    "loom": {
+        "Loom": ["n"],
+    },
+    "asking": {
+        "combed": ["text"],
+        "compared": ["text", "other"],
+    },
+}
+LOOM = {
+    "hang": ["word"],
+    "drop": ["many"],
+    "go": ["move"],
+    "undo": [],
+    "now": [],
+    "form_now": [],
+    "rings_now": [],
 }
 
 
@@ -78,6 +105,20 @@ class Interface(unittest.TestCase):
             for name, arguments in deeds.items():
                 with self.subTest(module=module_name, name=name):
                     self.assertEqual(list(inspect.signature(getattr(module, name)).parameters), arguments)
+
+    def test_methods_of_a_loom(self):
+        for name, arguments in LOOM.items():
+            self.assertEqual(list(inspect.signature(getattr(Loom(3), name)).parameters), arguments)
+
+    def test_values_that_may_be_left_out(self):
+        left_out = {}
+        for module_name, deeds in INTERFACE.items():
+            module = importlib.import_module("braidcomb." + module_name)
+            for name in deeds:
+                for each in inspect.signature(getattr(module, name)).parameters.values():
+                    if each.default is not inspect.Parameter.empty:
+                        left_out[name] = (each.name, each.default)
+        self.assertEqual(left_out, {"summits": ("most", 24), "alike": ("most", 24)})
 
 
 if __name__ == "__main__":

@@ -3,8 +3,10 @@
 import copy
 import unittest
 
+from braidcomb.asking import combed, compared
 from braidcomb.counts import linked, profile, rings, sum_of, table
 from braidcomb.forms import checked_form, form, form_joined, form_turned, form_word, same
+from braidcomb.likeness import alike
 from braidcomb.moves import move_back, moved, moves_of
 from braidcomb.parts import parted
 from braidcomb.pictures import picture, read_picture
@@ -12,12 +14,14 @@ from braidcomb.rows import (
     ahead, behind, checked_row, flipped_row, half, row_of, row_word, slid, starts, stops, straight,
 )
 from braidcomb.strings import doubled, without
+from braidcomb.summits import rolled_down, rolled_up, summit, summits
 from braidcomb.unfolding import unfolded
 from braidcomb.ways import way
 from braidcomb.words import checked, flipped, mirrored, order_of, trimmed, turned, upturned
 from braidcomb.wordtext import read_text, written
 from tests.samples import MOST_STRINGS, BraidCase, Dice, crossings, lists_within, sample_words, thrown_rows, walk
 
+MOST_STRINGS_TURNED = 4
 LISTS_OF_A_WORD = (turned, mirrored, upturned, trimmed, moves_of)
 LISTS_OF_N_AND_A_WORD = (flipped, order_of, table, rings, linked, profile, form, parted)
 LISTS_OF_A_ROW = (starts, stops, row_word, ahead, behind, flipped_row)
@@ -38,6 +42,9 @@ def asked():
         found.extend([(way, (n, word, other)) for other in walk(n, word, 3, Dice(n))])
         # One list stands for both words.
         found.append((way, (n, word, word)))
+    for n, word in sample_words((0, 1, 2, 9, 12)):
+        if n <= MOST_STRINGS_TURNED:
+            found.extend(asked_of_turning(n, word))
     for n in range(1, MOST_STRINGS + 1):
         found.extend([(straight, (n,)), (half, (n,))])
         for row in thrown_rows(n, 5) + [straight(n), half(n)]:
@@ -50,6 +57,15 @@ def asked_of_strings(n, word):
     for s in range(n):
         found.extend([(without, (n, word, s))] if n > 1 else [])
         found.extend([(doubled, (n, word, s))] if n < MOST_STRINGS else [])
+    return found
+
+
+def asked_of_turning(n, word):
+    found = [(summit, (n, word)), (summits, (n, word, 1000))]
+    found.extend([(alike, (n, word, other, 1000)) for other in (word, flipped(n, word))])
+    for halves in (-2, -1, 0, 1):
+        whole = (halves if n > 1 else 0, form(n, word)[1])
+        found.extend([(rolled_down, (n, whole)), (rolled_up, (n, whole))])
     return found
 
 
@@ -120,6 +136,8 @@ class Own(BraidCase):
             self.told(checked, n, word)
             self.told(written, n, word)
             self.told(picture, n, word)
+            self.told(combed, written(n, word))
+            self.told(compared, written(n, word), written(n, word))
             self.told(sum_of, word)
             self.told(same, n, word, word)
             self.told(same, n, word, turned(word))
